@@ -1,0 +1,1 @@
+"""Cabins on a rope that goes around by stations."""
