@@ -150,6 +150,31 @@ def imported(path):
     return [module.split(".")[1] for module in modules if module.startswith("ropecabins.")]
 
 
+def class_names(trees):
+    """The names of all methods, of all attributes that are assigned, and of all that are read and not called."""
+    methods, assigned, read = set(), set(), set()
+    for tree in trees:
+        called = {id(node.func) for node in ast.walk(tree) if isinstance(node, ast.Call)}
+        for node in ast.walk(tree):
+            if isinstance(node, ast.ClassDef):
+                methods |= {item.name for item in node.body if isinstance(item, ast.FunctionDef)}
+            elif isinstance(node, ast.Attribute) and not isinstance(node.ctx, ast.Load):
+                assigned.add(node.attr)
+            elif isinstance(node, ast.Attribute) and id(node) not in called:
+                read.add(node.attr)
+    return methods, assigned, read
+
+
+def class_faults(trees):
+    """What is wrong with the names of methods and attributes in all files together, as pairs of a rule and a name."""
+    methods, assigned, read = class_names(trees)
+    builtin = {name for kind in (str, int, list, tuple, dict, set, bytes) for name in dir(kind)}
+    found = [("L18", name) for name in sorted(methods & assigned)]
+    found += [("L18", name) for name in sorted(read - assigned - methods)]
+    found += [("L26", name) for name in sorted(assigned & builtin)]
+    return found + [("L26", name) for name in sorted(methods & builtin) if not name.startswith("__")]
+
+
 def rules(text):
     return {rule for rule, at in faults(text)}
 
@@ -181,6 +206,9 @@ class PackageTest(unittest.TestCase):
                             defined |= {target.id for target in item.targets}
                     self.assertLessEqual({name.name for name in node.names}, defined, path.name)
 
+    def test_names_of_methods_and_attributes(self):
+        self.assertEqual(class_faults([ast.parse(path.read_text("utf-8")) for path in self.paths()]), [])
+
     def test_no_two_files_import_from_each_other(self):
         above = {path.stem: imported(path) for path in self.paths()}
         done = set()
@@ -209,6 +237,14 @@ class CheckerTest(unittest.TestCase):
         ):
             with self.subTest(text[:40]):
                 self.assertIn(rule, rules(text))
+
+    def test_names_that_clash_are_found(self):
+        one = ast.parse("class A:\n    def many(self):\n        return self.few\n")
+        other = ast.parse("class B:\n    def __init__(self):\n        self.many = 1\n        self.keys = 2\n")
+        self.assertEqual(class_faults([one]), [("L18", "few")])
+        self.assertEqual(class_faults([other]), [("L26", "keys")])
+        self.assertEqual(class_faults([one, other]), [("L18", "many"), ("L18", "few"), ("L26", "keys")])
+        self.assertEqual(class_faults([ast.parse("class C:\n    def pop(self):\n        pass\n")]), [("L26", "pop")])
 
 
 if __name__ == "__main__":
