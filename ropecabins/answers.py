@@ -38,7 +38,7 @@ class Bars(Answer):
         if self.text == "space":
             return ticks < space
         if self.text == "few":
-            return many * ticks < all_rides(stations) + sum([stay for ride, stay, room in stations])
+            return many * ticks < all_rides(stations) + all_stays(stations)
         most_waits = sum([room * ticks - 1 for ride, stay, room in stations])
         return self.text == "many" and many * ticks > all_rides(stations) + most_waits
 
@@ -68,6 +68,10 @@ def all_rides(stations):
     return sum([ride for ride, stay, room in stations])
 
 
+def all_stays(stations):
+    return sum([stay for ride, stay, room in stations])
+
+
 def has_no_wait(triple, ticks):
     ride, stay, room = triple
     return stay >= room * ticks
@@ -90,8 +94,8 @@ def comes(motion, line):
     if not is_station(number, motion.rope.stations):
         return False
     if word == "put":
-        return motion.many[number] < motion.rope.gates[number].room and motion.put(number) == line[2]
-    return motion.many[number] > 0 and motion.take(number) == line[2]
+        return not motion.is_full(number) and motion.put(number) == line[2]
+    return not motion.is_empty(number) and motion.take(number) == line[2]
 
 
 def passes(motion, line):

@@ -137,6 +137,12 @@ class Motion:
             if came & gate.first_place:
                 self.put(at)
 
+    def is_full(self, at):
+        return self.many[at] >= self.rope.gates[at].room
+
+    def is_empty(self, at):
+        return self.many[at] == 0
+
     def put(self, at):
         """Put in a cabin as the last one of a row that has room; told is how many are in it then."""
         self.waiting += self.rope.gates[at].one_new

@@ -69,6 +69,23 @@ class PlainRope:
             self.tick()
         return tuple(now - then for now, then in zip(self.let, before))
 
+    def leap(self, ticks):
+        """As `go`, of any many ticks: from when it stands as it stood before, all comes as it came."""
+        before, seen, end = list(self.let), {}, self.ticks + ticks
+        while self.ticks < end:
+            stands = repr(self.stands())
+            if stands in seen:
+                then, let, stood = seen[stands]
+                rounds = (end - self.ticks) // (self.ticks - then)
+                self.let = [now + rounds * (now - early) for now, early in zip(self.let, let)]
+                self.stood += rounds * (self.stood - stood)
+                self.ticks += rounds * (self.ticks - then)
+                self.go(end - self.ticks)
+            else:
+                seen[stands] = self.ticks, list(self.let), self.stood
+                self.tick()
+        return tuple(now - then for now, then in zip(self.let, before))
+
     def stop(self, ticks):
         for row in self.rows:
             for cabin in row:
@@ -120,6 +137,47 @@ class PlainPast:
         early, last = self.start + rest, self.start + self.length
         let = [now + rounds * (b - a) for now, a, b in zip(self.let[early], self.let[self.start], self.let[last])]
         return self.stands[early], let, self.stood[early] + rounds * (self.stood[last] - self.stood[self.start])
+
+
+def plain_first_wrong(stations, space, tale):
+    """The number of the first line that can't come there, None if each one can."""
+    rope = PlainRope(stations, space)
+    for at, line in enumerate(tale):
+        if not plainly_comes(rope, *line):
+            return at
+    return None
+
+
+def plainly_comes(rope, word, number, told=None):
+    if word == "go":
+        return number >= 0 and rope.leap(number) == told
+    if word == "stop":
+        if number >= 0:
+            rope.stop(number)
+        return number >= 0
+    if number not in range(rope.count):
+        return False
+    if word == "put":
+        return len(rope.rows[number]) < rope.stations[number][2] and rope.put(number) == told
+    return len(rope.rows[number]) > 0 and rope.take(number) == told
+
+
+def some_tale(stations, space, chance):
+    """A right tale, told by the plain rope."""
+    rope, tale = PlainRope(stations, space), []
+    for k in range(chance.randint(0, 40)):
+        at, deed = chance.randrange(len(stations)), chance.randrange(6)
+        ticks = chance.choice([0, 1, chance.randrange(8), chance.randrange(60)])
+        if deed == 0:
+            rope.stop(ticks)
+            tale.append(("stop", ticks))
+        elif deed == 1 and rope.rows[at]:
+            tale.append(("take", at, rope.take(at)))
+        elif deed < 4 and len(rope.rows[at]) < stations[at][2]:
+            tale.append(("put", at, rope.put(at)))
+        else:
+            tale.append(("go", ticks, rope.go(ticks)))
+    return tale
 
 
 def some_ropes(seed, many):

@@ -6,7 +6,7 @@ import unittest
 
 from ropecabins import answers
 from ropecabins.answers import Answer, Bars, Keeps, Right, Wrong
-from tests.plain import PlainRope, some_ropes
+from tests.plain import some_ropes, some_tale
 
 GREAT = 10 ** 30
 TOO_GREAT_TO_SHOW = 10 ** 6000
@@ -355,24 +355,6 @@ class TalesTest(unittest.TestCase):
         self.assertFalse(wrong.shows(stations, 1, tale))
         self.assertEqual(vars(right), {})
         self.assertEqual(vars(wrong), {"line": 2})
-
-
-def some_tale(stations, space, chance):
-    """A right tale, told by the plain rope."""
-    rope, tale = PlainRope(stations, space), []
-    for k in range(chance.randint(0, 40)):
-        at, deed = chance.randrange(len(stations)), chance.randrange(6)
-        ticks = chance.choice([0, 1, chance.randrange(8), chance.randrange(60)])
-        if deed == 0:
-            rope.stop(ticks)
-            tale.append(("stop", ticks))
-        elif deed == 1 and rope.rows[at]:
-            tale.append(("take", at, rope.take(at)))
-        elif deed < 4 and len(rope.rows[at]) < stations[at][2]:
-            tale.append(("put", at, rope.put(at)))
-        else:
-            tale.append(("go", ticks, rope.go(ticks)))
-    return tale
 
 
 def numbers_changed(line, chance):
